@@ -11,38 +11,21 @@ import (
 
 	"strainer/api"
 	"strainer/dom"
+	"strainer/sample"
 )
 
-func text(s string) api.Node { return api.Node{Kind: api.Text, Text: s} }
-
-func comment(s string) api.Node { return api.Node{Kind: api.Comment, Text: s} }
-
-func el(name string, kids ...api.Node) api.Node {
-	return api.Node{Kind: api.Element, Name: name, Kids: kids}
-}
-
-// with is a node with attributes, told as names and values.
-func with(n api.Node, pairs ...string) api.Node {
-	for i := 0; i < len(pairs); i += 2 {
-		n.Attrs = append(n.Attrs, api.Attr{Name: pairs[i], Value: pairs[i+1]})
-	}
-	return n
-}
-
-// holding is a node with kids, whatever its Kind.
-func holding(n api.Node, kids ...api.Node) api.Node {
-	n.Kids = kids
-	return n
-}
+var (
+	text, comment, el, list = sample.Text, sample.Comment, sample.Element, sample.List
+	with, holding, chain    = sample.With, sample.Holding, sample.Chain
+	roomy, room, spoil      = sample.Roomy, sample.Room, sample.Spoil
+	whole, changed          = sample.Whole, sample.Changed
+)
 
 // called is a node with a name, whatever its Kind.
 func called(n api.Node, name string) api.Node {
 	n.Name = name
 	return n
 }
-
-// list is nodes.
-func list(l ...api.Node) []api.Node { return l }
 
 // pool is nodes that may be, and nodes that may not, each for one reason or for several.
 func pool() []api.Node {
@@ -86,19 +69,6 @@ func rows(yield func([]api.Node) bool) {
 	}
 }
 
-// whole is all that nodes tell, as one text: two lists of nodes have the same one just if they are the same.
-func whole(l []api.Node) string {
-	s := "["
-	for _, n := range l {
-		s += strconv.Itoa(n.Kind) + strconv.Quote(n.Name) + strconv.Quote(n.Text) + "("
-		for _, a := range n.Attrs {
-			s += strconv.Quote(a.Name) + strconv.Quote(a.Value)
-		}
-		s += ")" + whole(n.Kids)
-	}
-	return s + "]"
-}
-
 // named is an element's name's form.
 var named = regexp.MustCompile(`\A[a-z][a-z0-9-]*\z`)
 
@@ -110,25 +80,6 @@ func attributed(s string) bool {
 		}
 	}
 	return s != "" && utf8.ValidString(s)
-}
-
-// changed yields every text that is s with one byte changed, left out or put in.
-func changed(s string) func(func(string) bool) {
-	return func(yield func(string) bool) {
-		for i := range len(s) + 1 {
-			for c := range 256 {
-				if !yield(s[:i] + string([]byte{byte(c)}) + s[i:]) {
-					return
-				}
-				if i < len(s) && !yield(s[:i]+string([]byte{byte(c)})+s[i+1:]) {
-					return
-				}
-			}
-			if i < len(s) && !yield(s[:i]+s[i+1:]) {
-				return
-			}
-		}
-	}
 }
 
 // P3.1: Named.
@@ -613,60 +564,6 @@ func TestMerge(t *testing.T) {
 	}
 }
 
-// roomy is nodes whose lists all have room to spare, with something in it.
-func roomy(l []api.Node) []api.Node {
-	out := make([]api.Node, 0, len(l)+2)
-	for _, n := range l {
-		attrs := append(make([]api.Attr, 0, len(n.Attrs)+2), n.Attrs...)
-		for i := len(attrs); i < cap(attrs); i++ {
-			attrs[:cap(attrs)][i] = api.Attr{Name: "spare", Value: "spare"}
-		}
-		n.Attrs, n.Kids = attrs, roomy(n.Kids)
-		out = append(out, n)
-	}
-	for i := len(out); i < cap(out); i++ {
-		out[:cap(out)][i] = text("spare")
-	}
-	return out
-}
-
-// room is nodes with all that their lists have room for, as new memory: what is there now, spare room and all.
-func room(l []api.Node) []api.Node {
-	out := slices.Clone(l[:cap(l)])
-	for i := range out {
-		out[i].Attrs = slices.Clone(out[i].Attrs[:cap(out[i].Attrs)])
-		out[i].Kids = room(out[i].Kids)
-	}
-	return out
-}
-
-// spoil changes all that nodes are, at every depth, spare room and all.
-func spoil(l []api.Node) {
-	l = l[:cap(l)]
-	for i := range l {
-		attrs := l[i].Attrs[:cap(l[i].Attrs)]
-		for j := range attrs {
-			attrs[j] = api.Attr{Name: "spoilt", Value: "spoilt"}
-		}
-		spoil(l[i].Kids)
-		l[i] = api.Node{Kind: 77, Name: "spoilt", Text: "spoilt"}
-	}
-}
-
-// lists counts the lists of nodes, at every depth, by their first places, spare room and all.
-func lists(l []api.Node, seen map[any]int) {
-	if cap(l) == 0 {
-		return
-	}
-	seen[&l[:1][0]]++
-	for _, n := range l {
-		if cap(n.Attrs) > 0 {
-			seen[&n.Attrs[:1][0]]++
-		}
-		lists(n.Kids, seen)
-	}
-}
-
 // answers are the calls that answer nodes.
 var answers = map[string]func([]api.Node) []api.Node{"Clone": dom.Clone, "All": dom.All, "Merge": dom.Merge}
 
@@ -712,13 +609,8 @@ func TestNothingShared(t *testing.T) {
 		for l := range givens {
 			before := room(l)
 			answer := call(l)
-			seen := map[any]int{}
-			lists(l, seen)
-			lists(answer, seen)
-			for _, count := range seen {
-				if count > 1 {
-					t.Fatalf("%s: a list is shared: %s", name, whole(l))
-				}
+			if sample.Shared(l, answer) {
+				t.Fatalf("%s: a list is shared: %s", name, whole(l))
 			}
 			spoil(answer)
 			if !reflect.DeepEqual(before, room(l)) {
@@ -747,14 +639,6 @@ func TestAllOfItsOwn(t *testing.T) {
 			}
 		}
 	}
-}
-
-// chain is an element in an element, and so on, with nodes in the innermost one.
-func chain(deep int, inner ...api.Node) []api.Node {
-	for range deep {
-		inner = list(with(el("b", inner...), "x", "1"))
-	}
-	return inner
 }
 
 // P3.2, P3.3: nodes as deep as the document's bound, and many in the innermost one.

@@ -7,6 +7,7 @@ import (
 	"testing"
 
 	"strainer/refs"
+	"strainer/sample"
 	"strainer/utf"
 )
 
@@ -87,25 +88,6 @@ func rows(more int, ahead string, yield func(string) bool) bool {
 	return true
 }
 
-// changed yields every text that is s with one byte changed, left out or put in.
-func changed(s string) func(func(string) bool) {
-	return func(yield func(string) bool) {
-		for i := range len(s) + 1 {
-			for c := range 256 {
-				if !yield(s[:i] + string([]byte{byte(c)}) + s[i:]) {
-					return
-				}
-				if i < len(s) && !yield(s[:i]+string([]byte{byte(c)})+s[i+1:]) {
-					return
-				}
-			}
-			if i < len(s) && !yield(s[:i]+s[i+1:]) {
-				return
-			}
-		}
-	}
-}
-
 // P2.1: Name.
 func TestName(t *testing.T) {
 	if len(names) != 15 {
@@ -122,7 +104,7 @@ func TestName(t *testing.T) {
 		check(strings.ToUpper(name))
 		check(strings.ToUpper(name[:1]) + name[1:])
 		check("&" + name + ";")
-		for s := range changed(name) {
+		for s := range sample.Changed(name) {
 			check(s)
 		}
 	}
@@ -288,7 +270,7 @@ func TestOneChanged(t *testing.T) {
 		whole = append(whole, "&"+name+";")
 	}
 	for _, reference := range whole {
-		for s := range changed(reference) {
+		for s := range sample.Changed(reference) {
 			want, size := one(s)
 			if r, n := refs.One(s); r != want || n != size {
 				t.Errorf("%q: %d %d, not %d %d", s, r, n, want, size)

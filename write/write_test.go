@@ -7,33 +7,15 @@ import (
 	"testing"
 
 	"strainer/api"
+	"strainer/sample"
 	"strainer/write"
 )
 
-func text(s string) api.Node { return api.Node{Kind: api.Text, Text: s} }
-
-func comment(s string) api.Node { return api.Node{Kind: api.Comment, Text: s} }
-
-func el(name string, kids ...api.Node) api.Node {
-	return api.Node{Kind: api.Element, Name: name, Kids: kids}
-}
-
-// with is a node with attributes, told as names and values.
-func with(n api.Node, pairs ...string) api.Node {
-	for i := 0; i < len(pairs); i += 2 {
-		n.Attrs = append(n.Attrs, api.Attr{Name: pairs[i], Value: pairs[i+1]})
-	}
-	return n
-}
-
-// holding is a node with kids, whatever its Kind.
-func holding(n api.Node, kids ...api.Node) api.Node {
-	n.Kids = kids
-	return n
-}
-
-// list is nodes.
-func list(l ...api.Node) []api.Node { return l }
+var (
+	text, comment, el, list = sample.Text, sample.Comment, sample.Element, sample.List
+	with, holding           = sample.With, sample.Holding
+	roomy, room             = sample.Roomy, sample.Room
+)
 
 // all is every byte, each once, and characters of two to four bytes.
 func all() string {
@@ -357,27 +339,6 @@ func TestTwoLists(t *testing.T) {
 			t.Errorf("%q", got)
 		}
 	}
-}
-
-// roomy is nodes whose lists all have room to spare, with something in it.
-func roomy(l []api.Node) []api.Node {
-	out := append(make([]api.Node, 0, len(l)+2), l...)
-	for i := range out {
-		attrs := append(make([]api.Attr, 0, len(l[i].Attrs)+2), l[i].Attrs...)
-		out[i].Attrs = append(attrs, api.Attr{Name: "spare", Value: "spare"})[:len(l[i].Attrs)]
-		out[i].Kids = roomy(l[i].Kids)
-	}
-	return append(out, text("spare"))[:len(l)]
-}
-
-// room is nodes with all that their lists have room for, as new memory.
-func room(l []api.Node) []api.Node {
-	out := slices.Clone(l[:cap(l)])
-	for i := range out {
-		out[i].Attrs = slices.Clone(out[i].Attrs[:cap(out[i].Attrs)])
-		out[i].Kids = room(out[i].Kids)
-	}
-	return out
 }
 
 // R4, R5 of P4.1: no call changes what it is handed, spare room and all, and each tells the same again.
