@@ -1,7 +1,6 @@
 package build_test
 
 import (
-	"iter"
 	"math/rand/v2"
 	"reflect"
 	"slices"
@@ -168,30 +167,6 @@ func hold(t *testing.T, l []api.Token) {
 	}
 }
 
-// rows yields all rows of some words, of as many as told at most.
-func rows(most int, words string) iter.Seq[[]api.Token] {
-	pool := row(words)
-	return func(yield func([]api.Token) bool) {
-		longer(nil, most, pool, yield)
-	}
-}
-
-// longer yields a row, and all that begin with it, and tells whether to go on.
-func longer(l []api.Token, more int, pool []api.Token, yield func([]api.Token) bool) bool {
-	if !yield(l) {
-		return false
-	}
-	if more == 0 {
-		return true
-	}
-	for _, t := range pool {
-		if !longer(append(l[:len(l):len(l)], t), more-1, pool, yield) {
-			return false
-		}
-	}
-	return true
-}
-
 // P7.1: what is built of tokens, and what is open then.
 func TestBuilt(t *testing.T) {
 	for _, x := range []struct {
@@ -333,7 +308,7 @@ func lists(yield func([]api.Token) bool) {
 		{4, "+p +div +li +td +tr +b +br -p -div -li -tr -b -br 'x ' !c ?p"},
 		{6, "+p +ul +li -ul -p 'x"}, {6, "+b 'x ' -b ?b"}, {6, "+b +i -b -i 'x +br"}, {5, "+tr +td +p -tr -td 'x"}, {5, "+ - ' ! + +p -p"},
 	} {
-		for l := range rows(x.most, x.words) {
+		for l := range sample.Rows(x.most, row(x.words)...) {
 			if !yield(l) {
 				return
 			}

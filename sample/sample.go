@@ -69,6 +69,29 @@ func Changed(s string) iter.Seq[string] {
 	}
 }
 
+// Rows yields all rows of some things, of as many as told at most, each a list of its own.
+func Rows[T any](most int, pool ...T) iter.Seq[[]T] {
+	return func(yield func([]T) bool) {
+		longer(nil, most, pool, yield)
+	}
+}
+
+// longer yields a row, and all that begin with it, and tells whether to go on.
+func longer[T any](l []T, more int, pool []T, yield func([]T) bool) bool {
+	if !yield(l) {
+		return false
+	}
+	if more == 0 {
+		return true
+	}
+	for _, x := range pool {
+		if !longer(append(l[:len(l):len(l)], x), more-1, pool, yield) {
+			return false
+		}
+	}
+	return true
+}
+
 // put yields s with each byte ahead of, and in the place of, that one, and tells whether to go on.
 func put(s string, place int, yield func(string) bool) bool {
 	for c := range 256 {

@@ -60,6 +60,40 @@ func TestChanged(t *testing.T) {
 	}
 }
 
+// Rows yields all rows, each once, and of its own memory, and ends when it is told to.
+func TestRows(t *testing.T) {
+	want := [][]string{nil, {"a"}, {"a", "a"}, {"a", "b"}, {"b"}, {"b", "a"}, {"b", "b"}}
+	var got [][]string
+	for l := range sample.Rows(2, "a", "b") {
+		got = append(got, l)
+	}
+	if !reflect.DeepEqual(got, want) {
+		t.Error(got)
+	}
+	for stop := 1; stop <= len(want); stop++ {
+		told := 0
+		for range sample.Rows(2, "a", "b") {
+			if told++; told == stop {
+				break
+			}
+		}
+		if told != stop {
+			t.Fatal(told, stop)
+		}
+	}
+	for _, most := range []int{0, 3} {
+		count := 0
+		for l := range sample.Rows(most, 1, 2, 3) {
+			if count++; len(l) > most {
+				t.Error(l)
+			}
+		}
+		if count != map[int]int{0: 1, 3: 1 + 3 + 9 + 27}[most] {
+			t.Error(most, count)
+		}
+	}
+}
+
 // What a call could change in nodes with room to spare is seen: any field, any list, any room.
 func TestRoom(t *testing.T) {
 	want := sample.Whole(nodes())
